@@ -1,0 +1,1 @@
+"""Farapart: how far two numbers of a program can ever be from one another."""
