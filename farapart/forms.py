@@ -2,6 +2,7 @@
 
 from farapart.errors import NoName
 from farapart.kinds import is_source
+from farapart.sums import merged, replaced, shifted
 
 
 class Form:
@@ -13,7 +14,7 @@ class Form:
 
     def __init__(self, procedure, table):
         self._procedure = procedure
-        self._kinds = {name: procedure.kind(name) for name in procedure.names()}
+        self._kinds = procedure.kinds()
         self._table = {name: table[name] for name in self._kinds}
         self._table[""] = {"": 0}
 
@@ -37,20 +38,22 @@ class Form:
 
     def after(self, statement):
         """Return the Form behind a statement that is no call."""
-        word = statement[0]
-        if word == "skip":
-            return self
-        if word == "set":
-            return self._with({x: _shifted(self[y], c) for x, y, c in statement[1]})
-        x = statement[1]
-        return self._with({x: _merged(self.kind(x), [_shifted(self[y], c) for y, c in statement[2]])})
+        return self.along([statement])
+
+    def along(self, statements):
+        """Return the Form behind statements that are no calls, one after another."""
+        table = self._table
+        for statement in statements:
+            table = {**table, **_changed(self._kinds, table, statement)}
+        return Form(self._procedure, table)
 
     def behind(self, statement, other):
         """Return the Form behind a call; other is that of a whole run, by the parameters of what is called."""
         callee = other._procedure
         given = self._given(statement, callee)
-        taken = [_substituted(other.kind(y), other[y], given) for y in callee.results]
-        return self._with({x: sources for x, sources in zip(statement[3], taken)})
+        taken = [replaced(other.kind(y), other[y], given) for y in callee.results]
+        changed = {x: sources for x, sources in zip(statement[3], taken)}
+        return Form(self._procedure, {**self._table, **changed})
 
     def entered(self, statement, procedure):
         """Return the Form of what is called at its beginning, by the sources of this Form."""
@@ -58,8 +61,7 @@ class Form:
 
     def led(self, other):
         """Return the Form by the sources of other, which stands ahead and has the names that this one comes of."""
-        ahead = {source: other[source] for source in [""] + other.names()}
-        table = {name: _substituted(self._kinds[name], self[name], ahead) for name in self._kinds}
+        table = {name: replaced(kind, self._table[name], other._table) for name, kind in self._kinds.items()}
         return Form(self._procedure, table)
 
     def numbers(self, start):
@@ -83,12 +85,9 @@ class Form:
     def __eq__(self, other):
         return isinstance(other, Form) and self._kinds == other._kinds and self._table == other._table
 
-    def _with(self, changed):
-        return Form(self._procedure, {**self._table, **changed})
-
     def _given(self, statement, callee):
         """Return the dict from the parameters of what is called, and the empty string, to what they come of."""
-        parts = [_shifted(self[y], c) for y, c in statement[2]]
+        parts = [shifted(self[y], c) for y, c in statement[2]]
         given = {name: sources for name, sources in zip(callee.params, parts)}
         given[""] = {"": 0}
         return given
@@ -99,23 +98,15 @@ def _entry(procedure, given):
     return Form(procedure, {name: given.get(name, {"": 0}) for name in procedure.names()})
 
 
-def _shifted(sources, c):
-    return {source: number + c for source, number in sources.items()}
-
-
-def _merged(kind, parts):
-    """Return the dict of all sources of parts, of each the integer that counts for a name of this kind."""
-    found = {}
-    for sources in parts:
-        for source, number in sources.items():
-            known = found.get(source, number)
-            found[source] = min(known, number) if kind == "low" else max(known, number)
-    return {source: found[source] for source in sorted(found)}
-
-
-def _substituted(kind, sources, ahead):
-    """Return the dict of what sources come of by the dicts ahead."""
-    return _merged(kind, [_shifted(ahead[source], number) for source, number in sources.items()])
+def _changed(kinds, table, statement):
+    """Return the dict from the names that a statement sets to what they come of behind it."""
+    word = statement[0]
+    if word == "skip":
+        return {}
+    if word == "set":
+        return {x: shifted(table[y], c) for x, y, c in statement[1]}
+    x = statement[1]
+    return {x: merged(kinds[x], [shifted(table[y], c) for y, c in statement[2]])}
 
 
 def _number(kind, sources, known):

@@ -125,16 +125,18 @@ def _led_along(program, name, form, steps):
     """Return (place, form) behind whole steps from place 0, where form was."""
     procedure = program[name]
     place = 0
+    plain = []
     for step in steps:
-        index = step if is_integer(step) else step[1]
-        _, place, statement = procedure.way(index)
-        if is_call(statement):
+        if is_integer(step):
+            _, place, statement = procedure.way(step)
+            plain.append(statement)
+        else:
+            _, place, statement = procedure.way(step[1])
             callee = statement[1]
             _, run = _led_along(program, callee, Form.begin(program[callee]), step[2])
-            form = form.behind(statement, run)
-        else:
-            form = form.after(statement)
-    return place, form
+            form = form.along(plain).behind(statement, run)
+            plain = []
+    return place, form.along(plain)
 
 
 def _lists_from(program, name, place, many, whole):

@@ -48,6 +48,10 @@ class Procedure:
         """Return the ascending list of the names."""
         return list(self._kinds)
 
+    def kinds(self):
+        """Return the dict from the names to their kinds."""
+        return {name: kind for name, kind in self._kinds.items()}
+
     def kind(self, source):
         """Return the kind of a source."""
         if source == "":

@@ -17,6 +17,7 @@ class Program:
         _check_calls(kept)
         self._procedures = kept
         self._first = first
+        self._kept = {}
 
     @property
     def first(self):
@@ -51,6 +52,12 @@ class Program:
         """Return the Program with other names of procedures; names is a dict from its own to these."""
         procedures = {names[name]: _with_callees(self[name], names) for name in self._procedures}
         return Program(procedures, names[self._first])
+
+    def kept(self, word, made):
+        """Return what a function makes of the Program, which never changes; it is made once and kept by a word."""
+        if word not in self._kept:
+            self._kept[word] = made(self)
+        return self._kept[word]
 
     def __getitem__(self, at):
         if not is_name(at) or at not in self._procedures:

@@ -31,6 +31,14 @@ LISTED = {
         with_procedure with_number renamed""".split()},
     "forms": {"Form": """begin itself __getitem__ __eq__ names kind after behind entered led numbers apart""".split()},
     "plays": {name: None for name in ("is_run", "is_moment", "steps_of", "form_at", "played", "moments", "shown")},
+    "roads": {"Roads": """__init__ __len__ __eq__ put rows kind procedure wanted ends length form shows written""".split()},
+    "walks": {name: None for name in ("heaviest", "walk", "ring")},
+    "inner": {"Inner": "__init__ value rows ends".split()},
+    "outer": {"Outer": "__init__ value rows comes".split()},
+    "far": {name: None for name in ("far", "far_in", "known", "constant")},
+    "tables": {name: None for name in ("table", "is_table", "loosest")},
+    "reasons": {name: None for name in ("reason", "way_to", "is_reason")},
+    "beyond": {name: None for name in ("beyond", "growth")},
 }
 
 
@@ -61,6 +69,27 @@ def defined(tree):
     return [node.name for node in tree.body if isinstance(node, (ast.FunctionDef, ast.ClassDef))]
 
 
+def constants(tree):
+    return [target.id for node in tree.body if isinstance(node, ast.Assign) for target in node.targets]
+
+
+def is_plain(node, known):
+    """Whether a value at module level is a plain one, or made of such and of functions that are known."""
+    if isinstance(node, ast.Dict):
+        return all(is_plain(item, known) for item in node.keys + node.values)
+    if isinstance(node, (ast.List, ast.Tuple)):
+        return all(is_plain(item, known) for item in node.elts)
+    return isinstance(node, ast.Constant) or isinstance(node, ast.Name) and node.id in known
+
+
+def own_errors():
+    return {node.name for node in TREES["errors.py"].body if isinstance(node, ast.ClassDef)}
+
+
+def methods_by_class():
+    return {node.name: [item for item in node.body if isinstance(item, ast.FunctionDef)] for _, node in nodes(ast.ClassDef)}
+
+
 def own_attributes():
     found = {node.name for _, node in nodes(ast.FunctionDef)}
     return found | {node.attr for _, node in nodes(ast.Attribute) if isinstance(node.ctx, ast.Store)}
@@ -89,7 +118,8 @@ class LanguageTest(unittest.TestCase):
                 kinds = (ast.ImportFrom, ast.FunctionDef, ast.ClassDef, ast.Assign)
                 self.assertTrue(docstring or isinstance(node, kinds), where(name, node))
                 if isinstance(node, ast.Assign):
-                    ast.literal_eval(node.value)
+                    known = [item.name for item in tree.body if isinstance(item, ast.FunctionDef) and item.lineno < node.lineno]
+                    self.assertTrue(is_plain(node.value, known), where(name, node))
                     bound += [target.id for target in node.targets]
                 if isinstance(node, ast.ImportFrom):
                     bound += [alias.name for alias in node.names]
@@ -106,7 +136,7 @@ class LanguageTest(unittest.TestCase):
             reached.setdefault(name, []).append(source)
             for alias in node.names:
                 self.assertIsNone(alias.asname)
-                self.assertIn(alias.name, defined(TREES[source]), where(name, node))
+                self.assertIn(alias.name, defined(TREES[source]) + constants(TREES[source]), where(name, node))
         done = []
         for _ in TREES:
             done += [name for name in TREES if name not in done and all(other in done for other in reached.get(name, []))]
@@ -130,7 +160,7 @@ class LanguageTest(unittest.TestCase):
             self.assertNotIn("keys", methods)
 
     def test_signs_and_values(self):
-        banned = (ast.Global, ast.AsyncFunctionDef, ast.Await, ast.Try, ast.AnnAssign, ast.NamedExpr, ast.Lambda, ast.Div)
+        banned = (ast.Global, ast.AsyncFunctionDef, ast.Await, ast.AnnAssign, ast.NamedExpr, ast.Lambda, ast.Div, ast.With)
         self.assertEqual([where(name, node) for name, node in nodes(*banned)], [])
         for name, node in nodes(ast.Constant):
             self.assertNotIsInstance(node.value, (float, complex, bytes), where(name, node))
@@ -140,6 +170,33 @@ class LanguageTest(unittest.TestCase):
             for sign, other in zip(node.ops, node.comparators):
                 if isinstance(sign, (ast.Is, ast.IsNot)):
                     self.assertIn(getattr(other, "value", 0), (None, True, False), where(name, node))
+
+    def test_only_own_errors_are_caught(self):
+        for name, node in nodes(ast.Try):
+            self.assertEqual(node.finalbody, [])
+            for handler in node.handlers:
+                self.assertIn(handler.type.id, own_errors(), where(name, handler))
+
+    def test_statements_of_their_own_are_calls(self):
+        for name, node in nodes(ast.Expr):
+            docstring = isinstance(node.value, ast.Constant) and isinstance(node.value.value, str)
+            self.assertTrue(docstring or isinstance(node.value, (ast.Call, ast.Yield, ast.YieldFrom)), where(name, node))
+
+    def test_names_of_properties_and_static_methods_are_used_for_nothing_else(self):
+        decorated, plain = [], {node.attr for _, node in nodes(ast.Attribute) if isinstance(node.ctx, ast.Store)}
+        for methods in methods_by_class().values():
+            for item in methods:
+                if item.decorator_list:
+                    decorated.append(item.name)
+                else:
+                    plain.add(item.name)
+        self.assertEqual(sorted(set(decorated) & plain), [])
+        self.assertEqual(len(decorated), len(set(decorated)))
+
+    def test_names_of_methods_and_of_attributes_are_not_the_same(self):
+        methods = {item.name for found in methods_by_class().values() for item in found}
+        stored = {node.attr for _, node in nodes(ast.Attribute) if isinstance(node.ctx, ast.Store)}
+        self.assertEqual(sorted(methods & stored), [])
 
     def test_sets_stand_where_they_may(self):
         fine = []
