@@ -32,7 +32,8 @@ def each_way():
     yield one(x, ["x"], [], 2, (0, 0, ("set", [("x", "x", -3)])), (0, 1, ("skip",))), ("main", 1, "", "x"), "again"
     ring = Procedure(x, ["x"], ["x"], 3, [(0, 1, ("skip",)), (1, 1, up), (1, 2, ("set", [("x", "x", -50)]))])
     yield Program({"main": main, "f": ring}, "main"), ("main", 1, "x", ""), "again"
-    itself = Procedure(x, ["x"], ["x"], 3, [(0, 1, ("call", "f", [("x", 3)], ["x"])), (1, 2, ("set", [("x", "x", -2)])), (0, 2, up)])
+    itself = Procedure(x, ["x"], ["x"], 3, [(0, 1, ("call", "f", [("x", 3)], ["x"])), (1, 2, ("set", [("x", "x", -2)])),
+                                            (0, 2, up)])
     yield Program({"main": main, "f": itself}, "main"), ("main", 1, "x", ""), "times"
     yield Program({"main": main, "f": itself}, "main"), ("f", 2, "x", ""), "times"
     lost = Procedure(x, ["x"], ["x"], 2, [(0, 0, ("call", "f", [("x", -2)], ["x"]))])
@@ -52,6 +53,47 @@ def each_way():
     low = one({"l": "low", "p": "plain"}, ["l", "p"], ["l"], 2, (0, 1, ("call", "main", [("l", -1), ("p", 0)], ["l"])),
               (0, 1, ("least", "l", [("p", 4), ("l", 0)])))
     yield low, ("main", 1, "p", "l"), "times"
+
+
+def through_three_calls(ahead, behind, inmost):
+    """Endless by what is inmost, with ways ahead of each call and behind it."""
+    kinds = {"x": "plain"}
+
+    def around(callee):
+        ways = [(0, 1, ("set", [("x", "x", ahead)])), (1, 2, ("call", callee, [("x", behind + 2)], ["x"])),
+                (2, 3, ("set", [("x", "x", behind)]))]
+        return Procedure(kinds, ["x"], ["x"], 4, ways)
+
+    return Program({"main": around("f"), "f": around("g"), "g": around("h"), "h": inmost}, "main")
+
+
+def inmost_ones(ahead, behind):
+    kinds = {"x": "plain"}
+    yield Procedure(kinds, ["x"], ["x"], 4, [(0, 1, ("set", [("x", "x", ahead)])), (1, 1, ("set", [("x", "x", 1)])),
+                                             (1, 2, ("skip",)), (2, 3, ("set", [("x", "x", behind)]))])
+    yield Procedure(kinds, ["x"], ["x"], 4, [(0, 1, ("set", [("x", "x", ahead)])),
+                                             (1, 2, ("call", "h", [("x", 1 - ahead - behind)], ["x"])),
+                                             (2, 3, ("set", [("x", "x", behind)])),
+                                             (0, 3, ("set", [("x", "x", behind)]))])
+
+
+def with_other_calls_beside():
+    """One calls itself with a gain, behind a call of what becomes endless itself only later, by others.
+
+    f rests on g, which rests on h; h calls k and k calls h, with a gain.
+    """
+    kinds = {"x": "plain"}
+
+    def calls(*ways):
+        return Procedure(kinds, ["x"], ["x"], 4, ways)
+
+    f = calls((0, 3, ("skip",)), (0, 1, ("call", "g", [("x", 0)], ["x"])), (1, 2, ("call", "f", [("x", 1)], ["x"])),
+              (2, 3, ("call", "g", [("x", 0)], ["x"])))
+    g = calls((0, 3, ("call", "h", [("x", 0)], ["x"])))
+    h = calls((0, 3, ("skip",)), (0, 3, ("call", "k", [("x", 0)], ["x"])))
+    k = calls((0, 3, ("call", "h", [("x", 1)], ["x"])))
+    main = calls((0, 3, ("call", "f", [("x", 0)], ["x"])))
+    return Program({"main": main, "f": f, "g": g, "h": h, "k": k}, "main")
 
 
 def bounded(program):
@@ -74,7 +116,8 @@ class BeyondTest(unittest.TestCase):
         found = growth(program, facts, spot)
         self.assertIsInstance(found, tuple)
         rows, start, base, gain = found
-        self.assertEqual([type(rows), type(start), type(base), type(gain), facts.keeps(start)], [list, dict, int, int, True])
+        self.assertEqual([type(rows), type(start), type(base), type(gain), facts.keeps(start)],
+                         [list, dict, int, int, True])
         self.assertTrue(gain >= 1 and len(rows) <= 2000)
         found = [at for at, row in enumerate(rows) if row[0] in ("again", "times")]
         self.assertEqual([len(found), rows[found[0]][2]], [1, 1])
@@ -90,7 +133,8 @@ class BeyondTest(unittest.TestCase):
         self.assertIsNone(beyond(loop, facts, ("main", 1, "w", "r"), 3))
         rows, start = beyond(down, anything, ("main", 1, "b", "a"), 10 ** 30)
         name, place, numbers = Roads(down, rows).shows(len(rows) - 1, start)
-        self.assertEqual([name, place, numbers["b"] - numbers["a"] > 10 ** 30, len(rows) <= 2000], ["main", 1, True, True])
+        self.assertEqual([name, place, numbers["b"] - numbers["a"] > 10 ** 30, len(rows) <= 2000],
+                         ["main", 1, True, True])
 
     def test_random_programs(self):
         rng = random.Random(710)
@@ -127,6 +171,38 @@ class BeyondTest(unittest.TestCase):
             self.assertEqual(self.check_growth(program, facts, spot), word, spot)
             for number in (-BIG, -100, -1, 0, 1, 2, 3, 100, BIG):
                 self.check_beyond(program, facts, spot, number)
+
+    def test_endless_below_several_calls(self):
+        for ahead, behind in [(0, 0), (7, 3), (-7, 3), (7, -3), (-7, -30)]:
+            for inmost in inmost_ones(ahead, behind):
+                program = through_three_calls(ahead, behind, inmost)
+                facts = bounded(program)
+                for name, place in [("main", 2), ("main", 3), ("f", 3), ("g", 2), ("h", 3)]:
+                    self.assertEqual(far(program, facts, (name, place, "x", "")), "endless")
+                    self.check_growth(program, facts, (name, place, "x", ""))
+                    self.check_beyond(program, facts, (name, place, "x", ""), BIG)
+
+    def test_endless_beside_other_calls(self):
+        program = with_other_calls_beside()
+        facts = bounded(program)
+        for spot in all_spots(program):
+            if far(program, facts, spot) == "endless":
+                self.check_growth(program, facts, spot)
+                self.check_beyond(program, facts, spot, BIG)
+        self.assertEqual([far(program, facts, (name, 3, "x", "")) for name in program.names()], ["endless"] * 5)
+
+    def test_starts_that_are_not_0(self):
+        program = one({"a": "plain", "x": "plain"}, ["a"], [], 1, (0, 0, ("set", [("x", "x", 1)])),
+                      (0, 0, ("set", [("x", "a", 0)])))
+        down = one({"a": "plain", "x": "plain"}, ["a"], [], 1, (0, 0, ("set", [("x", "x", -1)])),
+                   (0, 0, ("set", [("x", "a", 0)])))
+        for number in (1000, -1000, BIG, -BIG):
+            facts = Facts(["a"], [("a", "", number), ("", "a", -number)])
+            for some, spots in [(program, [("main", 0, "x", ""), ("main", 0, "x", "a")]),
+                                (down, [("main", 0, "", "x"), ("main", 0, "a", "x")])]:
+                for spot in spots:
+                    self.check_growth(some, facts, spot)
+                    self.check_beyond(some, facts, spot, 3 * abs(number))
 
     def test_endless_by_the_facts(self):
         program = one({"a": "plain", "b": "plain"}, ["a", "b"], [], 2, (0, 1, ("set", [("a", "a", 5)])))

@@ -91,7 +91,8 @@ class FarTest(unittest.TestCase):
         kinds = {"a": "plain", "b": "plain", "h": "high", "l": "low"}
         still = one(kinds, ["a", "b"], 1)
         spot = ("main", 0, "a", "b")
-        for facts, value in [([], "endless"), ([("a", "", 3)], "endless"), ([("a", "", 3), ("", "b", 2)], 5), ([("a", "b", -7)], -7),
+        for facts, value in [([], "endless"), ([("a", "", 3)], "endless"), ([("a", "", 3), ("", "b", 2)], 5),
+                             ([("a", "b", -7)], -7),
                              ([("b", "a", 1)], "endless")]:
             self.assertEqual(far(still, Facts(["a", "b"], facts), spot), value)
         for value, way in [("endless", (0, 0, ("set", [("a", "a", 1)]))), (0, (0, 0, ("set", [("a", "a", -1)]))),
@@ -100,23 +101,30 @@ class FarTest(unittest.TestCase):
             self.assertEqual(far(one(kinds, ["a", "b"], 1, way), Facts(["a", "b"], [("a", "b", 0)]), spot), value)
         turned = Procedure({"a": "plain", "b": "plain"}, ["a", "b"], ["a"], 2, [
             (0, 1, ("call", "main", [("a", 1), ("b", 0)], ["a"])), (0, 1, ("skip",))])
-        self.assertEqual(far(Program({"main": turned}, "main"), Facts(["a", "b"], [("a", "b", 0)]), ("main", 1, "a", "b")), "endless")
+        self.assertEqual(far(Program({"main": turned}, "main"), Facts(["a", "b"], [("a", "b", 0)]),
+                             ("main", 1, "a", "b")), "endless")
         self.assertIsNone(far(one(kinds, ["a", "b"], 2), Facts(["a", "b"]), ("main", 1, "a", "b")))
 
     def test_sources_and_kinds(self):
         kinds = {"h": "high", "l": "low", "p": "plain"}
-        program = one(kinds, ["h", "l"], 2, (0, 1, ("most", "h", [("h", 1), ("p", 5)])), (0, 1, ("least", "l", [("l", 2), ("", 3)])))
+        program = one(kinds, ["h", "l"], 2, (0, 1, ("most", "h", [("h", 1), ("p", 5)])),
+                      (0, 1, ("least", "l", [("l", 2), ("", 3)])))
         facts = Facts(["h", "l"], [("h", "", 9), ("", "l", 4), ("h", "l", 10)])
-        for spot, value in [(("main", 0, "h", "l"), 10), (("main", 1, "h", "l"), 11), (("main", 1, "h", ""), 10), (("main", 1, "", "l"), 4),
-                            (("main", 1, "", ""), 0), (("main", 1, "h", "p"), 10), (("main", 1, "p", "l"), 4), (("main", 0, "", "l"), 4),
+        for spot, value in [(("main", 0, "h", "l"), 10), (("main", 1, "h", "l"), 11), (("main", 1, "h", ""), 10),
+                            (("main", 1, "", "l"), 4),
+                            (("main", 1, "", ""), 0), (("main", 1, "h", "p"), 10), (("main", 1, "p", "l"), 4),
+                            (("main", 0, "", "l"), 4),
                             (("main", 0, "p", "p"), 0), (("main", 0, "p", ""), 0)]:
             self.assertEqual(far(program, facts, spot), value, spot)
 
     def test_far_in(self):
         loop, down, anything = loop_program(), down_program(), Facts(["a"])
-        self.assertEqual([far_in(loop, FACTS, "main", "w", "r"), far_in(loop, FACTS, "main", "r", "w"), far_in(loop, FACTS, "main", "w", "w"),
-                          far_in(loop, FACTS, "main", "", "r"), far_in(down, anything, "main", "b", "a"), far_in(down, anything, "deep", "m", "n"),
-                          far_in(down, anything, "deep", "", "n")], [3, 0, 0, "endless", "endless", "endless", "endless"])
+        self.assertEqual([far_in(loop, FACTS, "main", "w", "r"), far_in(loop, FACTS, "main", "r", "w"),
+                          far_in(loop, FACTS, "main", "w", "w"),
+                          far_in(loop, FACTS, "main", "", "r"), far_in(down, anything, "main", "b", "a"),
+                          far_in(down, anything, "deep", "m", "n"),
+                          far_in(down, anything, "deep", "", "n")], [3, 0, 0, "endless", "endless", "endless",
+                                                                     "endless"])
         self.assertEqual(far_in(down, Facts(["a"], [("", "a", 0)]), "deep", "", "n"), -3)
         unused = Procedure({"x": "plain"}, [], [], 4, [(0, 1, ("skip",))])
         program = Program({"main": Procedure({}, [], [], 1, []), "f": unused}, "main")
@@ -137,10 +145,14 @@ class FarTest(unittest.TestCase):
         even = Facts(["r", "w"], [("w", "r", 2), ("r", "w", -2)])
         self.assertEqual([constant(loop, even, ("main", 0, "w", "r")), constant(loop, even, ("main", 1, "w", "r")),
                           constant(loop, even, ("main", 1, "r", "w")), constant(loop, even, ("main", 1, "r", "r")),
-                          constant(loop, even, ("main", 0, "w", "")), constant(loop, FACTS, ("main", 0, "w", "r"))], [2, 3, -3, 0, None, None])
-        self.assertEqual([constant(loop, even, ("main", 0, "", "")), constant(loop, even, ("main", 1, "", "w"))], [0, None])
-        program = one({"a": "plain", "b": "plain", "c": "plain"}, ["a"], 3, (0, 1, ("set", [("b", "a", 10 ** 39)])), (0, 1, ("set", [("b", "a", 10 ** 39), ("c", "", 1)])))
-        self.assertEqual([constant(program, Facts(["a"]), ("main", 1, x, y)) for x, y in [("b", "a"), ("a", "b"), ("c", ""), ("b", "")]],
+                          constant(loop, even, ("main", 0, "w", "")), constant(loop, FACTS, ("main", 0, "w", "r"))],
+                         [2, 3, -3, 0, None, None])
+        self.assertEqual([constant(loop, even, ("main", 0, "", "")), constant(loop, even, ("main", 1, "", "w"))],
+                         [0, None])
+        program = one({"a": "plain", "b": "plain", "c": "plain"}, ["a"], 3, (0, 1, ("set", [("b", "a", 10 ** 39)])),
+                      (0, 1, ("set", [("b", "a", 10 ** 39), ("c", "", 1)])))
+        pairs = [("b", "a"), ("a", "b"), ("c", ""), ("b", "")]
+        self.assertEqual([constant(program, Facts(["a"]), ("main", 1, x, y)) for x, y in pairs],
                          [10 ** 39, -10 ** 39, None, None])
         self.assertIsNone(constant(program, Facts(["a"]), ("main", 2, "b", "a")))
         rng = random.Random(613)
@@ -158,16 +170,20 @@ class FarTest(unittest.TestCase):
                     self.assertEqual(caught.exception.name, x if program[name].kind(x) != "plain" else y)
 
     def test_known(self):
-        rows = [("f", 0, "x", "y", "r", "w", 4), ("f", 0, "x", "y", "w", "r", 1), ("f", 0, "x", "y", "r", "", -9), ("f", 1, "x", "y", "w", "", 0),
+        rows = [("f", 0, "x", "y", "r", "w", 4), ("f", 0, "x", "y", "w", "r", 1), ("f", 0, "x", "y", "r", "", -9),
+                ("f", 1, "x", "y", "w", "", 0),
                 ("f", 0, "x", "", "", "w", 7), ("g", 0, "x", "y", "w", "w", 100), ("f", 0, "x", "z", "", "", "endless")]
         spot = ("f", 0, "x", "y")
         for some in (rows, rows[::-1], rows[3:] + rows[:3]):
             self.assertEqual(known(FACTS, some, spot), 4)
-        self.assertEqual([known(FACTS, rows[1:], spot), known(FACTS, rows[2:], spot), known(FACTS, rows[3:], spot), known(FACTS, [], spot)],
+        self.assertEqual([known(FACTS, rows[1:], spot), known(FACTS, rows[2:], spot), known(FACTS, rows[3:], spot),
+                          known(FACTS, [], spot)],
                          [3, -4, None, None])
-        self.assertEqual([known(FACTS, rows, ("f", 1, "x", "y")), known(FACTS, rows, ("f", 0, "x", "")), known(FACTS, rows, ("g", 0, "x", "y"))],
+        self.assertEqual([known(FACTS, rows, ("f", 1, "x", "y")), known(FACTS, rows, ("f", 0, "x", "")),
+                          known(FACTS, rows, ("g", 0, "x", "y"))],
                          [7, "endless", 100])
-        self.assertEqual([known(FACTS, rows, ("f", 0, "x", "z")), known(FACTS, rows, ("f", 0, "x", "w")), known(FACTS, rows, ("h", 0, "x", "y"))],
+        self.assertEqual([known(FACTS, rows, ("f", 0, "x", "z")), known(FACTS, rows, ("f", 0, "x", "w")),
+                          known(FACTS, rows, ("h", 0, "x", "y"))],
                          ["endless", None, None])
         greater_rows = [row[:6] + (row[6] if row[6] == "endless" else row[6] + 10 ** 50,) for row in rows]
         self.assertEqual(known(FACTS, greater_rows, spot), 4 + 10 ** 50)
@@ -204,9 +220,11 @@ class FarTest(unittest.TestCase):
             other = Program({name: program[name].renamed({x: within[x] for x in program[name].names()})
                              for name in program.names()}, "main").renamed(names)
             sources = {"": "", **within}
-            others = Facts([within[x] for x in facts.names()], [(sources[x], sources[y], c) for x, y, c in facts.bounds()])
+            others = Facts([within[x] for x in facts.names()], [(sources[x], sources[y], c) for x, y,
+                                                                c in facts.bounds()])
             for name, place, x, y in all_spots(program):
-                self.assertEqual(far(program, facts, (name, place, x, y)), far(other, others, (names[name], place, sources[x], sources[y])))
+                self.assertEqual(far(program, facts, (name, place, x, y)),
+                                 far(other, others, (names[name], place, sources[x], sources[y])))
 
     def test_twice_and_two_facts_by_turns(self):
         program, anything = turns_program(), Facts(["p", "q"])

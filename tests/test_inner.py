@@ -92,11 +92,16 @@ class InnerTest(unittest.TestCase):
     def test_the_loop(self):
         inner = Inner(loop_program())
         for given, value in [
-            (("main", 0, "w", "r", "w", "r"), 0), (("main", 1, "w", "r", "w", "r"), 1), (("main", 1, "r", "w", "r", "w"), -1),
-            (("main", 0, "w", "w", "w", "w"), 0), (("main", 0, "w", "", "w", ""), "endless"), (("main", 0, "", "w", "", "w"), 0),
-            (("main", 1, "", "w", "", "w"), -1), (("main", 1, "w", "*", "w", "*"), "endless"), (("main", 1, "*", "w", "*", "w"), -1),
-            (("main", 0, "*", "*", "*", "*"), 0), (("main", 1, "", "*", "", "*"), 0), (("main", 1, "w", "r", "r", "w"), None),
-            (("main", 1, "w", "r", "w", "*"), None), (("main", 1, "*", "r", "w", "r"), None), (("main", 1, "w", "r", "", "r"), None),
+            (("main", 0, "w", "r", "w", "r"), 0), (("main", 1, "w", "r", "w", "r"), 1),
+            (("main", 1, "r", "w", "r", "w"), -1),
+            (("main", 0, "w", "w", "w", "w"), 0), (("main", 0, "w", "", "w", ""), "endless"),
+            (("main", 0, "", "w", "", "w"), 0),
+            (("main", 1, "", "w", "", "w"), -1), (("main", 1, "w", "*", "w", "*"), "endless"),
+            (("main", 1, "*", "w", "*", "w"), -1),
+            (("main", 0, "*", "*", "*", "*"), 0), (("main", 1, "", "*", "", "*"), 0),
+            (("main", 1, "w", "r", "r", "w"), None),
+            (("main", 1, "w", "r", "w", "*"), None), (("main", 1, "*", "r", "w", "r"), None),
+            (("main", 1, "w", "r", "", "r"), None),
         ]:
             self.assertEqual(inner.value(*given), value, given)
 
@@ -115,12 +120,15 @@ class InnerTest(unittest.TestCase):
     def test_whole_runs_in_the_place_of_calls(self):
         """What is called gives back its own parameter, the greatest of two, or a number of its own."""
         f = Procedure({"x": "plain", "h": "high"}, ["x"], ["h"], 2, [
-            (0, 1, ("most", "h", [("x", 3), ("", 20)])), (0, 1, ("set", [("h", "x", 7)])), (0, 0, ("set", [("x", "x", -1)]))])
+            (0, 1, ("most", "h", [("x", 3), ("", 20)])), (0, 1, ("set", [("h", "x", 7)])),
+            (0, 0, ("set", [("x", "x", -1)]))])
         main = Procedure({"a": "plain", "k": "high"}, ["a"], [], 2, [(0, 1, ("call", "f", [("a", 100)], ["k"]))])
         inner = Inner(Program({"main": main, "f": f}, "main"))
-        self.assertEqual([inner.value("main", 1, "k", v, s, t) for v, s, t in [("a", "a", "a"), ("", "a", ""), ("a", "", "a")]],
+        self.assertEqual([inner.value("main", 1, "k", v, s, t) for v, s,
+                          t in [("a", "a", "a"), ("", "a", ""), ("a", "", "a")]],
                          [107, 107, 20])
-        self.assertEqual([inner.value("main", 1, "a", "a", "a", "a"), inner.value("main", 0, "k", "a", "", "a")], [0, 0])
+        self.assertEqual([inner.value("main", 1, "a", "a", "a", "a"), inner.value("main", 0, "k", "a", "", "a")],
+                         [0, 0])
         self.assertIsNone(inner.value("main", 1, "k", "*", "*", "*"))
 
     def test_endless_by_a_ring_of_ways(self):
@@ -134,7 +142,8 @@ class InnerTest(unittest.TestCase):
 
     def test_endless_by_a_ring_within_a_call(self):
         for gain, value in [(1, "endless"), (0, 4)]:
-            f = Procedure({"x": "plain"}, ["x"], ["x"], 2, [(0, 0, ("set", [("x", "x", gain)])), (0, 1, ("set", [("x", "x", 3)]))])
+            f = Procedure({"x": "plain"}, ["x"], ["x"], 2, [(0, 0, ("set", [("x", "x", gain)])),
+                                                            (0, 1, ("set", [("x", "x", 3)]))])
             main = Procedure({"a": "plain", "b": "plain"}, ["a"], [], 2, [(0, 1, ("call", "f", [("a", 1)], ["b"]))])
             inner = Inner(Program({"main": main, "f": f}, "main"))
             self.assertEqual(inner.value("main", 1, "b", "a", "a", "a"), value)
@@ -165,7 +174,8 @@ class InnerTest(unittest.TestCase):
         main = Procedure({"a": "plain"}, ["a"], [], 3, [(0, 1, ("call", "f", [("a", 0)], ["a"])), (0, 2, ("skip",))])
         inner = Inner(Program({"main": main, "f": f}, "main"))
         self.assertEqual([inner.ends("f"), inner.ends("main")], [False, True])
-        self.assertEqual([inner.value("main", 1, "a", "a", "a", "a"), inner.value("f", 1, "x", "*", "x", "*")], [None, None])
+        self.assertEqual([inner.value("main", 1, "a", "a", "a", "a"), inner.value("f", 1, "x", "*", "x", "*")],
+                         [None, None])
         self.assertEqual([inner.value("f", 0, "x", "*", "x", "*"), inner.value("main", 2, "a", "a", "a", "a")], [0, 0])
         alone = one({}, [], [], 1)
         self.assertEqual([Inner(alone).ends("main"), Inner(alone).rows()[0]], [True, ("main", 0, "", "", "", "", 0)])
@@ -218,11 +228,13 @@ class InnerTest(unittest.TestCase):
         down, loop = Inner(down_program()), Inner(loop_program())
         for _ in range(2):
             rows, others = down.rows(), loop.rows()
-            self.assertEqual([("deep", 1, "m", "*", "n", "*", "endless") in rows, ("main", 1, "w", "r", "w", "r", 1) in others],
+            self.assertEqual([("deep", 1, "m", "*", "n", "*", "endless") in rows,
+                              ("main", 1, "w", "r", "w", "r", 1) in others],
                              [True, True])
             rows.clear()
             others.reverse()
-            self.assertEqual([down.value("main", 1, "b", "a", "a", "a"), loop.value("main", 1, "w", "r", "w", "r")], ["endless", 1])
+            self.assertEqual([down.value("main", 1, "b", "a", "a", "a"), loop.value("main", 1, "w", "r", "w", "r")],
+                             ["endless", 1])
             self.assertEqual(loop.rows(), sorted(others))
 
 

@@ -68,7 +68,8 @@ class OuterTest(unittest.TestCase):
             (loop, ("main", 0, "w", "r", "w", "r"), 0), (loop, ("main", 1, "w", "r", "w", "r"), 1),
             (loop, ("main", 1, "r", "w", "r", "w"), -1), (loop, ("main", 1, "w", "", "w", ""), "endless"),
             (loop, ("main", 1, "w", "r", "r", "w"), None), (down, ("deep", 0, "n", "", "a", ""), "endless"),
-            (down, ("deep", 0, "", "n", "", "a"), -3), (down, ("deep", 0, "m", "", "", ""), 0), (down, ("deep", 0, "m", "", "a", ""), None),
+            (down, ("deep", 0, "", "n", "", "a"), -3), (down, ("deep", 0, "m", "", "", ""), 0),
+            (down, ("deep", 0, "m", "", "a", ""), None),
             (down, ("deep", 1, "m", "n", "a", "a"), "endless"), (down, ("deep", 1, "n", "m", "a", "a"), 0),
             (down, ("main", 1, "b", "a", "a", "a"), "endless"), (down, ("main", 1, "a", "b", "a", "a"), -3),
             (down, ("main", 0, "b", "a", "", "a"), 0), (down, ("main", 0, "", "", "", ""), 0),
@@ -76,13 +77,16 @@ class OuterTest(unittest.TestCase):
             self.assertEqual(outer.value(*given), value, given)
 
     def test_places_that_are_not_come_to(self):
-        f = Procedure({"x": "plain"}, ["x"], [], 3, [(0, 1, ("skip",)), (2, 1, ("skip",)), (1, 1, ("call", "f", [("x", 0)], []))])
+        f = Procedure({"x": "plain"}, ["x"], [], 3, [(0, 1, ("skip",)), (2, 1, ("skip",)),
+                                                     (1, 1, ("call", "f", [("x", 0)], []))])
         unused = Procedure({}, [], [], 2, [(0, 1, ("call", "main", [("", 0)], []))])
-        main = Procedure({"a": "plain"}, ["a"], [], 3, [(0, 1, ("call", "f", [("a", 0)], [])), (2, 2, ("call", "g", [], []))])
+        main = Procedure({"a": "plain"}, ["a"], [], 3, [(0, 1, ("call", "f", [("a", 0)], [])),
+                                                        (2, 2, ("call", "g", [], []))])
         outer = Outer(Program({"main": main, "f": f, "g": unused}, "main"))
         told = [[outer.comes(name, place) for place in range(size)] for name, size in [("main", 3), ("f", 3), ("g", 2)]]
         self.assertEqual(told, [[True, False, False], [True, True, False], [False, False]])
-        self.assertEqual([outer.value("f", 2, "x", "x", "a", "a"), outer.value("main", 1, "a", "", "a", "")], [None, None])
+        self.assertEqual([outer.value("f", 2, "x", "x", "a", "a"), outer.value("main", 1, "a", "", "a", "")],
+                         [None, None])
         self.assertEqual({row[:2] for row in outer.rows()}, {("main", 0), ("f", 0), ("f", 1)})
 
     def test_endless_by_a_way_round(self):
@@ -109,18 +113,22 @@ class OuterTest(unittest.TestCase):
         f = Procedure({"x": "plain"}, ["x"], ["x"], 2, [(0, 0, ("call", "f", [("x", 2)], ["x"]))])
         main = Procedure({"a": "plain"}, ["a"], [], 2, [(0, 1, ("call", "f", [("a", 1)], ["a"]))])
         outer = Outer(Program({"main": main, "f": f}, "main"))
-        self.assertEqual([outer.value("f", 0, "x", "", "a", ""), outer.value("f", 0, "", "x", "", "a")], ["endless", -1])
+        self.assertEqual([outer.value("f", 0, "x", "", "a", ""), outer.value("f", 0, "", "x", "", "a")],
+                         ["endless", -1])
         self.assertEqual([outer.comes("main", 1), outer.comes("f", 1)], [False, False])
         g = Procedure({"x": "plain"}, ["x"], [], 1, [(0, 0, ("call", "f", [("x", 0)], []))])
         f = Procedure({"x": "plain"}, ["x"], [], 1, [(0, 0, ("call", "g", [("x", -1)], []))])
         outer = Outer(Program({"f": f, "g": g}, "f"))
-        self.assertEqual([outer.value("g", 0, "x", "", "x", ""), outer.value("g", 0, "", "x", "", "x")], [-1, "endless"])
+        self.assertEqual([outer.value("g", 0, "x", "", "x", ""), outer.value("g", 0, "", "x", "", "x")],
+                         [-1, "endless"])
 
     def test_kinds_of_names_and_sources(self):
         kinds = {"h": "high", "l": "low", "p": "plain"}
-        main = Procedure(kinds, ["h", "l"], [], 2, [(0, 1, ("most", "h", [("h", 1), ("p", 5)])), (0, 1, ("least", "l", [("l", 2), ("", 3)]))])
+        main = Procedure(kinds, ["h", "l"], [], 2, [(0, 1, ("most", "h", [("h", 1), ("p", 5)])),
+                                                    (0, 1, ("least", "l", [("l", 2), ("", 3)]))])
         outer = Outer(Program({"main": main}, "main"))
-        for given, value in [(("h", "l", "h", "l"), 1), (("h", "l", "", "l"), 5), (("h", "l", "h", ""), -3), (("h", "l", "l", "l"), None),
+        for given, value in [(("h", "l", "h", "l"), 1), (("h", "l", "", "l"), 5), (("h", "l", "h", ""), -3),
+                             (("h", "l", "l", "l"), None),
                              (("h", "l", "h", "h"), None), (("p", "l", "", ""), -3), (("", "", "", ""), 0)]:
             self.assertEqual(outer.value("main", 1, *given), value, given)
 
@@ -132,12 +140,15 @@ class OuterTest(unittest.TestCase):
         self.assertEqual(self.raises(NoProc, value, "x", 9, "x", "x", "x", "x").name, "x")
         self.assertEqual(self.raises(NoPlace, value, "f", 2, "*", "x", "x", "x").place, 2)
         self.assertEqual(self.raises(NoPlace, value, "f", -1, "*", "x", "x", "x").place, -1)
-        for given, name in [(("*", "*", "*", "*"), "*"), (("m", "*", "*", "*"), "*"), (("p", "q", "r", "s"), "p"), (("x", "q", "r", "s"), "q"),
-                            (("m", "k", "x", "s"), "x"), (("m", "k", "p", "l"), "l"), (("m", "k", "*", "x"), "*"), (("m", "k", "p", "*"), "*")]:
+        for given, name in [(("*", "*", "*", "*"), "*"), (("m", "*", "*", "*"), "*"), (("p", "q", "r", "s"), "p"),
+                            (("x", "q", "r", "s"), "q"),
+                            (("m", "k", "x", "s"), "x"), (("m", "k", "p", "l"), "l"), (("m", "k", "*", "x"), "*"),
+                            (("m", "k", "p", "*"), "*")]:
             self.assertEqual(self.raises(NoName, value, "f", 1, *given).name, name)
         self.assertEqual(self.raises(NotFar, value, "f", 1, "m", "k", "p", "h").name, "m")
         self.assertEqual(self.raises(NotFar, value, "f", 1, "k", "k", "p", "h").name, "k")
-        self.assertEqual([value("f", 0, "k", "m", "", ""), value("f", 0, "x", "m", "p", ""), value("f", 1, "x", "m", "p", "")], [0, 0, None])
+        self.assertEqual([value("f", 0, "k", "m", "", ""), value("f", 0, "x", "m", "p", ""),
+                          value("f", 1, "x", "m", "p", "")], [0, 0, None])
         comes = Outer(Program({"main": main, "f": f}, "main")).comes
         self.assertEqual(self.raises(NoProc, comes, "x", 9).name, "x")
         self.assertEqual(self.raises(NoPlace, comes, "main", 3).place, 3)
@@ -162,7 +173,8 @@ class OuterTest(unittest.TestCase):
             self.assertEqual([rows, others], kept)
             rows.clear()
             others.reverse()
-            self.assertEqual([one.value("main", 1, "b", "a", "a", "a"), other.value("main", 1, "w", "r", "w", "r")], ["endless", 1])
+            self.assertEqual([one.value("main", 1, "b", "a", "a", "a"), other.value("main", 1, "w", "r", "w", "r")],
+                             ["endless", 1])
             self.assertEqual([one.comes("deep", 1), other.comes("main", 1)], [True, True])
 
 

@@ -41,6 +41,7 @@ ROWS = [
     ("within", 11, 14), ("times", 14, 7), ("filled", 16, 5), ("enter", 0, 2), ("enter", 12, 1), ("deeper", 18, 19),
     ("times", 19, 9), ("moment", None, 1), ("moment", 20, 12), ("around", 1, 4, 10), ("filled", 24, 9), ("enter", 1, 4),
     ("around", 12, 1, 13), ("filled", 15, 17), ("call", "main", 4, 28), ("moment", 18, 12), ("steps", "f", 0, (0, 3)),
+    ("steps", "main", 1, ()),
 ]
 
 # (kind, procedure, wanted, ends, length) of each.
@@ -55,58 +56,82 @@ TOLD = [
     ("entry", "f", "f", None, 9), ("moment", "main", None, None, 1), ("moment", "main", None, None, 2),
     ("context", "main", "main", None, 2), ("run", "main", None, None, 7), ("entry", "main", "main", None, 2),
     ("context", "f", "f", None, 1), ("run", "main", None, None, 10), ("part", "main", None, (1, 2), 11),
-    ("moment", "main", None, None, 1), ("part", "f", None, (0, 1), 2),
+    ("moment", "main", None, None, 1), ("part", "f", None, (0, 1), 2), ("part", "main", None, (1, 1), 0),
 ]
 
 NO_ROWS = [
     # What is no tuple of a word, or of as many items.
-    None, [], (), "", "run", 0, True, ["run", 4], ["steps", "main", 0, ()], ("Run", 4), ("steps",), (None, 4), (["run"], 4),
-    ("run",), ("run", 4, 4), ("steps", "main", 0), ("steps", "main", 0, (), ()), ("call", "main", 2), ("call", "main", 2, 5, 5),
+    None, [], (), "", "run", 0, True, ["run", 4], ["steps", "main", 0, ()], ("Run", 4), ("steps",), (None, 4),
+    (["run"], 4),
+    ("run",), ("run", 4, 4), ("steps", "main", 0), ("steps", "main", 0, (), ()), ("call", "main", 2),
+    ("call", "main", 2, 5, 5),
     ("then", 3), ("then", 3, 6, 6), ("again", 3), ("again", 3, 5, 5), ("around", 0, 2), ("around", 0, 2, 10, 10),
     ("within", 11), ("within", 11, 14, 14), ("times", 14), ("times", 14, 7, 7), ("filled", 16), ("filled", 16, 5, 5),
-    ("enter", 0), ("enter", 0, 2, 2), ("deeper", 18), ("deeper", 18, 19, 19), ("moment", 1), ("moment", None, 1, 1), ("moment",),
+    ("enter", 0), ("enter", 0, 2, 2), ("deeper", 18), ("deeper", 18, 19, 19), ("moment", 1), ("moment", None, 1, 1),
+    ("moment",),
     # Steps.
-    ("steps", "g", 0, ()), ("steps", None, 0, ()), ("steps", "", 0, ()), ("steps", ["main"], 0, ()), ("steps", "main", 3, ()),
+    ("steps", "g", 0, ()), ("steps", None, 0, ()), ("steps", "", 0, ()), ("steps", ["main"], 0, ()),
+    ("steps", "main", 3, ()),
     ("steps", "main", -1, ()), ("steps", "main", False, ()), ("steps", "main", "0", ()), ("steps", "main", None, ()),
     ("steps", "main", 0, None), ("steps", "main", 0, 0), ("steps", "main", 0, "0"), ("steps", "main", 0, {0: 1}),
     ("steps", "main", 0, (1,)), ("steps", "main", 0, (0, 0)), ("steps", "main", 0, (2,)), ("steps", "main", 0, (0, 4)),
-    ("steps", "main", 0, (5,)), ("steps", "main", 0, (-5,)), ("steps", "main", 0, (False,)), ("steps", "main", 0, (0, True)),
-    ("steps", "main", 0, ("0",)), ("steps", "main", 0, ((0,),)), ("steps", "main", 0, (None,)), ("steps", "main", 1, (0,)),
+    ("steps", "main", 0, (5,)), ("steps", "main", 0, (-5,)), ("steps", "main", 0, (False,)),
+    ("steps", "main", 0, (0, True)),
+    ("steps", "main", 0, ("0",)), ("steps", "main", 0, ((0,),)), ("steps", "main", 0, (None,)),
+    ("steps", "main", 1, (0,)),
     ("steps", "main", 0, (0, 3, 0)), ("steps", "f", 0, (1,)), ("steps", "f", 0, (0, 4)),
     # Calls.
     ("call", "g", 2, 5), ("call", None, 2, 5), ("call", "main", 0, 5), ("call", "main", 5, 5), ("call", "main", -3, 5),
-    ("call", "main", True, 5), ("call", "main", None, 5), ("call", "main", 2, 9), ("call", "main", 4, 5), ("call", "main", 2, 4),
-    ("call", "main", 2, 11), ("call", "main", 2, 99), ("call", "main", 2, -1), ("call", "main", 2, "5"), ("call", "main", 2, None),
+    ("call", "main", True, 5), ("call", "main", None, 5), ("call", "main", 2, 9), ("call", "main", 4, 5),
+    ("call", "main", 2, 4),
+    ("call", "main", 2, 11), ("call", "main", 2, 99), ("call", "main", 2, -1), ("call", "main", 2, "5"),
+    ("call", "main", 2, None),
     ("call", "main", 2, True), ("call", "f", 0, 5), ("call", "f", 2, 5), ("call", "f", 1, 9),
     # Then and again.
     ("then", 1, 1), ("then", 1, 0), ("then", 0, 2), ("then", 0, 12), ("then", 12, 0), ("then", 5, 6), ("then", 3, 9),
-    ("then", 99, 3), ("then", 3, 99), ("then", -1, 0), ("then", False, 3), ("then", 3, False), ("then", None, 3), ("then", "3", 3),
+    ("then", 99, 3), ("then", 3, 99), ("then", -1, 0), ("then", False, 3), ("then", 3, False), ("then", None, 3),
+    ("then", "3", 3),
     ("then", 13, 12), ("then", 11, 10), ("then", 3, 22),
-    ("again", 1, 5), ("again", 2, 1), ("again", 3, 0), ("again", 3, -1), ("again", 3, True), ("again", 3, None), ("again", 3, "5"),
-    ("again", 5, 5), ("again", 14, 5), ("again", 19, 5), ("again", 99, 5), ("again", False, 5), ("again", 7, 1), ("again", 22, 1),
+    ("again", 1, 5), ("again", 2, 1), ("again", 3, 0), ("again", 3, -1), ("again", 3, True), ("again", 3, None),
+    ("again", 3, "5"),
+    ("again", 5, 5), ("again", 14, 5), ("again", 19, 5), ("again", 99, 5), ("again", False, 5), ("again", 7, 1),
+    ("again", 22, 1),
     # Runs.
-    ("run", 0), ("run", 1), ("run", 2), ("run", 5), ("run", 10), ("run", 11), ("run", 13), ("run", 99), ("run", -1), ("run", None),
+    ("run", 0), ("run", 1), ("run", 2), ("run", 5), ("run", 10), ("run", 11), ("run", 13), ("run", 99), ("run", -1),
+    ("run", None),
     ("run", True), ("run", "4"), ("run", [4]), ("run", 22), ("run", 29), ("run", 12),
     # Contexts.
     ("around", 1, 2, 10), ("around", 0, 2, 1), ("around", 0, 0, 10), ("around", 0, 9, 10), ("around", 0, -3, 10),
-    ("around", 0, 2, 13), ("around", 12, 2, 13), ("around", 12, 1, 10), ("around", 0, True, 10), ("around", False, 2, 10),
+    ("around", 0, 2, 13), ("around", 12, 2, 13), ("around", 12, 1, 10), ("around", 0, True, 10),
+    ("around", False, 2, 10),
     ("around", 0, 4, 10), ("around", 0, 2, 9), ("around", 5, 2, 10), ("around", 0, 2, None), ("around", None, 2, 10),
     ("around", 0, None, 10), ("around", 2, 2, 10), ("around", 12, 2, 12), ("around", 99, 2, 10), ("around", 12, 1, 12),
-    ("within", 11, 11), ("within", 14, 11), ("within", 24, 14), ("within", 11, 19), ("within", 18, 14), ("within", 11, 5),
+    ("around", 12, 1, 32), ("around", 0, 1, 32),
+    ("within", 11, 11), ("within", 14, 11), ("within", 24, 14), ("within", 11, 19), ("within", 18, 14),
+    ("within", 11, 5),
     ("within", 99, 14), ("within", 11, 99), ("within", None, 14), ("within", True, 14), ("within", 11, -1),
     ("times", 11, 2), ("times", 15, 1), ("times", 18, 1), ("times", 14, 0), ("times", 14, -4), ("times", 14, True),
-    ("times", 14, None), ("times", 3, 2), ("times", 5, 2), ("times", 99, 2), ("times", None, 2), ("times", True, 2), ("times", 22, 1),
+    ("times", 14, None), ("times", 3, 2), ("times", 5, 2), ("times", 99, 2), ("times", None, 2), ("times", True, 2),
+    ("times", 22, 1),
     ("filled", 11, 9), ("filled", 24, 5), ("filled", 14, 4), ("filled", 14, 14), ("filled", 19, 5), ("filled", 5, 5),
-    ("filled", 99, 5), ("filled", 14, 99), ("filled", None, 5), ("filled", 14, None), ("filled", 14, True), ("filled", 14, 22),
+    ("filled", 99, 5), ("filled", 14, 99), ("filled", None, 5), ("filled", 14, None), ("filled", 14, True),
+    ("filled", 14, 22),
     # Entries.
-    ("enter", 1, 2), ("enter", 0, 0), ("enter", 0, 4), ("enter", 0, 9), ("enter", 0, -3), ("enter", 0, True), ("enter", 0, None),
-    ("enter", 2, 2), ("enter", 12, 2, 0), ("enter", 13, 1), ("enter", 5, 2), ("enter", 18, 1), ("enter", 99, 2), ("enter", None, 2),
-    ("enter", False, 2), ("enter", 12, 0), ("deeper", 18, 18), ("deeper", 19, 18), ("deeper", 26, 19), ("deeper", 18, 14),
-    ("deeper", 14, 19), ("deeper", None, 19), ("deeper", 18, None), ("deeper", 99, 19), ("deeper", 18, 4), ("deeper", True, 19),
+    ("enter", 1, 2), ("enter", 0, 0), ("enter", 0, 4), ("enter", 0, 9), ("enter", 0, -3), ("enter", 0, True),
+    ("enter", 0, None),
+    ("enter", 2, 2), ("enter", 12, 2, 0), ("enter", 13, 1), ("enter", 5, 2), ("enter", 18, 1), ("enter", 99, 2),
+    ("enter", None, 2),
+    ("enter", False, 2), ("enter", 12, 0), ("deeper", 18, 18), ("deeper", 19, 18), ("deeper", 26, 19),
+    ("deeper", 18, 14),
+    ("deeper", 14, 19), ("deeper", None, 19), ("deeper", 18, None), ("deeper", 99, 19), ("deeper", 18, 4),
+    ("deeper", True, 19),
     # Moments.
-    ("moment", None, 2), ("moment", None, 10), ("moment", None, 13), ("moment", 18, 0), ("moment", 18, 13), ("moment", 26, 12),
-    ("moment", 11, 12), ("moment", 5, 12), ("moment", 18, 5), ("moment", None, 9), ("moment", None, 18), ("moment", None, None),
-    ("moment", None, 99), ("moment", 99, 12), ("moment", True, 12), ("moment", None, False), ("moment", 18, 22), ("moment", 0, 0),
+    ("moment", None, 2), ("moment", None, 10), ("moment", None, 13), ("moment", 18, 0), ("moment", 18, 13),
+    ("moment", 26, 12),
+    ("moment", 11, 12), ("moment", 5, 12), ("moment", 18, 5), ("moment", None, 9), ("moment", None, 18),
+    ("moment", None, None),
+    ("moment", None, 99), ("moment", 99, 12), ("moment", True, 12), ("moment", None, False), ("moment", 18, 22),
+    ("moment", 0, 0),
     ("moment", "", 0),
 ]
 
@@ -126,7 +151,8 @@ class RoadsTest(unittest.TestCase):
     def test_the_example(self):
         down = down_program()
         roads = Roads(down, [("steps", "deep", 0, [1]), ("run", 0), ("steps", "deep", 0, []), ("steps", "deep", 1, [])])
-        self.assertEqual([roads.put(("around", 2, 0, 3)), roads.put(("times", 4, 10 ** 18)), roads.put(("filled", 5, 1))],
+        self.assertEqual([roads.put(("around", 2, 0, 3)), roads.put(("times", 4, 10 ** 18)),
+                          roads.put(("filled", 5, 1))],
                          [4, 5, 6])
         self.assertEqual([roads.kind(6), roads.length(6), roads.form(6)["m"], roads.wanted(4), roads.ends(3)],
                          ["run", 1000000000000000001, {"n": 1000000000000000000}, "deep", (1, 1)])
@@ -139,7 +165,8 @@ class RoadsTest(unittest.TestCase):
             self.assertEqual(len(roads), len(ROWS))
             self.assertEqual(roads.rows(), ROWS)
             for index, told in enumerate(TOLD):
-                found = (roads.kind(index), roads.procedure(index), roads.wanted(index), roads.ends(index), roads.length(index))
+                found = (roads.kind(index), roads.procedure(index), roads.wanted(index), roads.ends(index),
+                         roads.length(index))
                 self.assertEqual(found, told, index)
 
     def test_put_one_after_another(self):
@@ -223,7 +250,8 @@ class RoadsTest(unittest.TestCase):
         self.assertIs(roads != Roads(sample_program(), ROWS), False)
         self.assertIs(Roads(sample_program()) == Roads(sample_program(), []), True)
         other = sample_program().with_number("main", 0, 0, 2)
-        for thing in [Roads(sample_program(), ROWS[:-1]), Roads(sample_program(), ROWS[:-1] + [("run", 4)]), Roads(other, ROWS),
+        for thing in [Roads(sample_program(), ROWS[:-1]), Roads(sample_program(), ROWS[:-1] + [("run", 4)]),
+                      Roads(other, ROWS),
                       Roads(Program({"main": sample_program()["main"], "f": sample_program()["f"]}, "f"), ROWS)]:
             self.assertIs(roads == thing, False)
             self.assertIs(roads != thing, True)
@@ -235,7 +263,8 @@ class RoadsTest(unittest.TestCase):
         roads = Roads(sample_program(), ROWS)
         for thing in junk() + [-1, len(ROWS), 10 ** 40, True, False, "0", None, [0], (0,), {}, ANY, 1j]:
             if thing not in (0, 1) or isinstance(thing, bool):
-                for call in (roads.kind, roads.procedure, roads.wanted, roads.ends, roads.length, roads.form, roads.written,
+                for call in (roads.kind, roads.procedure, roads.wanted, roads.ends, roads.length, roads.form,
+                             roads.written,
                              lambda row: roads.shows(row, {"a": 0})):
                     self.assertIs(self.raises(NoEntry, call, thing).many, thing)
         self.assertEqual(self.raises(NoEntry, Roads(sample_program()).kind, 0).many, 0)
@@ -263,11 +292,20 @@ class RoadsTest(unittest.TestCase):
             run = roads.put(("filled", roads.put(("times", 14, many)), 5))
             if many < 200:
                 self.assertEqual(roads.written(moment), [0] + [3] * many)
-                self.assertEqual([steps_of(roads.written(run)), is_run(sample_program(), "f", roads.written(run))], [many + 1, True])
+                self.assertEqual([steps_of(roads.written(run)), is_run(sample_program(), "f", roads.written(run))],
+                                 [many + 1, True])
             else:
                 self.assertEqual(self.raises(TooMany, roads.written, moment).most, 200)
                 self.assertEqual(self.raises(TooMany, roads.written, run).most, 200)
             self.assertEqual(self.raises(NotSo, roads.written, ring).row, ring)
+
+    def test_written_and_shown_beside_rows_that_are_too_long(self):
+        roads = Roads(sample_program(), ROWS)
+        part = roads.put(("again", 3, HUGE))
+        for _ in range(300):
+            part = roads.put(("then", part, roads.put(("again", part, HUGE))))
+        run = roads.put(("run", 4))
+        self.assertEqual([roads.written(run), roads.written(22), roads.form(run)["y"]], [[0], [0], {"x": 3}])
 
     def test_written(self):
         roads = Roads(sample_program(), ROWS)
@@ -455,7 +493,8 @@ class FormsTest(unittest.TestCase):
                 if not again and (kind not in seen or roads.wanted(row) != roads.procedure(row)):
                     continue
                 seen[kind] += 1
-                word, joined = {"part": ("again", "then"), "context": ("times", "within"), "entry": ("times", "deeper")}[kind]
+                word, joined = {"part": ("again", "then"), "context": ("times", "within"),
+                                "entry": ("times", "deeper")}[kind]
                 for one, other in [(1, 2), rng.choice([(10 ** 18, 5), (HUGE, 10 ** 59 + 3)])]:
                     parts = [roads.put((word, row, many)) for many in (one, other)]
                     whole, halves = roads.put((word, row, one + other)), roads.put((joined, *parts))
@@ -507,7 +546,8 @@ class FormsTest(unittest.TestCase):
                 (2, 3, ("call", "f", [("y", 100)], ["y"])), (0, 3, ("set", [("y", "x", 1000)]))]
         kinds = {"x": "plain", "y": "plain"}
         program = Program({"f": Procedure(kinds, ["x"], ["y"], 4, ways)}, "f")
-        roads = Roads(program, [("steps", "f", 0, [3]), ("run", 0), ("call", "f", 0, 1), ("call", "f", 2, 1), ("around", 2, 1, 3)])
+        roads = Roads(program, [("steps", "f", 0, [3]), ("run", 0), ("call", "f", 0, 1), ("call", "f", 2, 1),
+                                ("around", 2, 1, 3)])
         steps = [3]
         for many in (1, 2, 3):
             steps = [("call", 0, [3]), ("call", 1, steps), ("call", 2, [3])]

@@ -31,9 +31,12 @@ WRONG = [
     (("x", 9, "z", "w"), NoProc, "name", "x"), (("", -1, "p", "p"), NoProc, "name", ""),
     (("main", 3, "z", "w"), NoPlace, "place", 3), (("main", -1, "z", "w"), NoPlace, "place", -1),
     (("unused", 1, "p", "p"), NoPlace, "place", 1), (("main", 10 ** 40, "l", "h"), NoPlace, "place", 10 ** 40),
-    (("main", 2, "z", "w"), NoName, "name", "z"), (("main", 2, "l", "w"), NoName, "name", "w"), (("main", 2, "*", "w"), NoName, "name", "*"),
-    (("unused", 0, "p", "*"), NoName, "name", "*"), (("main", 1, "l", "h"), NotFar, "name", "l"), (("main", 2, "l", ""), NotFar, "name", "l"),
-    (("main", 2, "p", "h"), NotFar, "name", "h"), (("unused", 0, "", "h"), NotFar, "name", "h"), (("main", 0, "h", "h"), NotFar, "name", "h"),
+    (("main", 2, "z", "w"), NoName, "name", "z"), (("main", 2, "l", "w"), NoName, "name", "w"),
+    (("main", 2, "*", "w"), NoName, "name", "*"),
+    (("unused", 0, "p", "*"), NoName, "name", "*"), (("main", 1, "l", "h"), NotFar, "name", "l"),
+    (("main", 2, "l", ""), NotFar, "name", "l"),
+    (("main", 2, "p", "h"), NotFar, "name", "h"), (("unused", 0, "", "h"), NotFar, "name", "h"),
+    (("main", 0, "h", "h"), NotFar, "name", "h"),
 ]
 
 

@@ -101,14 +101,16 @@ class TablesTest(unittest.TestCase):
         for _ in range(rng.randint(1, 3)):
             at = rng.randrange(len(rows))
             value = rows[at][6]
-            found[at] = rows[at][:6] + (rng.choice(["endless", "endless" if value == "endless" else value + rng.randint(0, 5)]),)
+            found[at] = rows[at][:6] + (rng.choice(["endless",
+                                                    "endless" if value == "endless" else value + rng.randint(0, 5)]),)
         return found
 
     def test_all_endless(self):
         for program in programs(10, 624):
             inner, outer = [[row[:6] + ("endless",) for row in rows] for rows in table(program)]
             self.assertIs(is_table(program, inner, outer), True)
-            self.assertEqual(loosest(program, inner, outer), [row[:6] + ("endless",) for row in table(program)[1] if row[6] != "endless"])
+            self.assertEqual(loosest(program, inner, outer),
+                             [row[:6] + ("endless",) for row in table(program)[1] if row[6] != "endless"])
 
     def test_outer_greater_everywhere(self):
         for program in programs(10, 625):
@@ -124,11 +126,13 @@ class TablesTest(unittest.TestCase):
         program = Program({"main": main}, "main")
         inner, outer = table(program)
         self.assertIs(is_table(program, inner, outer + [("main", 2, "a", "h", "a", "a", 5)]), False)
-        for row in [("main", 2, "h", "a", "a", "a", 5), ("main", 2, "", "", "a", "a", "endless"), ("main", 1, "a", "a", "", "", -7)]:
+        for row in [("main", 2, "h", "a", "a", "a", 5), ("main", 2, "", "", "a", "a", "endless"),
+                    ("main", 1, "a", "a", "", "", -7)]:
             self.assertIs(is_table(program, inner, outer + [row]), True, row)
             self.assertIs(is_table(program, inner + [row], outer), True, row)
             self.assertEqual(loosest(program, inner, [row] + outer), [row])
-        for row in [("main", 2, "*", "a", "a", "*", 5), ("main", 2, "a", "*", "*", "*", 5), ("main", 2, "h", "a", "*", "", 5)]:
+        for row in [("main", 2, "*", "a", "a", "*", 5), ("main", 2, "a", "*", "*", "*", 5),
+                    ("main", 2, "h", "a", "*", "", 5)]:
             self.assertIs(is_table(program, inner, outer + [row]), False, row)
             self.assertIs(is_table(program, inner + [row], outer), True, row)
         # Such a row at place 0 wants what comes of it.
@@ -157,7 +161,8 @@ class TablesTest(unittest.TestCase):
                 row = rows[at]
                 things = [list(row), row[:6], row + (0,), (), None, 0, "row", {row: 1}, tuple(row[:5])]
                 for place, others in [
-                    (0, ["g", "", "Main", None, 0, True, ["main"], ANY]), (1, [2, -1, True, False, "0", None, [0], ANY, 10 ** 40]),
+                    (0, ["g", "", "Main", None, 0, True, ["main"], ANY]),
+                    (1, [2, -1, True, False, "0", None, [0], ANY, 10 ** 40]),
                     (2, ["z", "l", None, 0, True, ["p"], "**", ANY]), (3, ["z", "h", None, 0, False, ("p",), ANY]),
                     (4, ["z", "q", "y", None, 0, True, ANY]), (5, ["z", "y", None, 0, {}, ANY]),
                     (6, [True, False, None, "Endless", "", "0", [0], (1,), "*", ANY]),
@@ -165,14 +170,20 @@ class TablesTest(unittest.TestCase):
                     things += [at_place(row, place, item) for item in others]
                 for thing in things:
                     changed = rows[:at] + [thing] + rows[at + 1:]
-                    self.assertIs(is_table(program, *((changed, outer) if rows is inner else (inner, changed))), False, thing)
+                    self.assertIs(is_table(program, *((changed, outer) if rows is inner else (inner, changed))), False,
+                                  thing)
+                    longer = rows + [thing]
+                    self.assertIs(is_table(program, *((longer, outer) if rows is inner else (inner, longer))), False,
+                                  thing)
         for place, item in [(2, "*"), (3, "*"), (4, "*"), (5, "*"), (4, "x"), (5, "x")]:
-            self.assertIs(is_table(program, inner, outer + [at_place(("main", 1, "p", "p", "", "", 0), place, item)]), False)
+            self.assertIs(is_table(program, inner, outer + [at_place(("main", 1, "p", "p", "", "", 0), place, item)]),
+                          False)
 
     def test_any_other_values(self):
         loop = loop_program()
         inner, outer = table(loop)
-        for thing in junk() + [ANY, tuple(inner), [], deep(), {}, [ANY], [None], [[]], [()], loop, [inner], "", [("main",)] * 5]:
+        for thing in junk() + [ANY, tuple(inner), [], deep(), {}, [ANY], [None], [[]], [()], loop, [inner], "",
+                               [("main",)] * 5]:
             self.assertIs(is_table(loop, thing, outer), False)
             self.assertIs(is_table(loop, inner, thing), False)
             self.assertIs(is_table(loop, thing, thing), False)
@@ -199,17 +210,21 @@ class TablesTest(unittest.TestCase):
             (0, 1, ("set", [("b", "a", 5)])), (1, 2, ("call", "f", [("b", 2)], ["a"]))])
         program = Program({"main": main, "f": f}, "main")
         for which, keys in [
-            ("inner", [("main", 0, "a", "b", "a", ""), ("f", 0, "x", "*", "x", "*"), ("f", 0, "*", "*", "*", "*"), ("f", 0, "", "y", "", "")]),
+            ("inner", [("main", 0, "a", "b", "a", ""), ("f", 0, "x", "*", "x", "*"), ("f", 0, "*", "*", "*", "*"),
+                       ("f", 0, "", "y", "", "")]),
             ("outer", [("main", 0, "a", "b", "a", ""), ("main", 0, "", "", "", "")]),
             # A way that is no call.
             ("inner", [("main", 1, "b", "a", "a", "a"), ("main", 1, "b", "*", "a", "*"), ("f", 1, "y", "x", "x", "x")]),
             ("outer", [("main", 1, "b", "a", "a", "a"), ("main", 1, "a", "b", "a", "a"), ("f", 1, "y", "x", "a", "a")]),
             # Behind a call: what it gives, what rests, and both.
-            ("inner", [("main", 2, "a", "b", "a", "a"), ("main", 2, "b", "a", "a", "a"), ("main", 2, "b", "*", "a", "*"),
+            ("inner", [("main", 2, "a", "b", "a", "a"), ("main", 2, "b", "a", "a", "a"),
+                       ("main", 2, "b", "*", "a", "*"),
                        ("main", 2, "a", "a", "a", "a"), ("main", 2, "", "*", "", "*")]),
-            ("outer", [("main", 2, "a", "b", "a", "a"), ("main", 2, "b", "", "a", ""), ("main", 2, "a", "a", "a", "a"), ("main", 2, "", "", "", "")]),
+            ("outer", [("main", 2, "a", "b", "a", "a"), ("main", 2, "b", "", "a", ""), ("main", 2, "a", "a", "a", "a"),
+                       ("main", 2, "", "", "", "")]),
             # Into a call.
-            ("outer", [("f", 0, "x", "y", "a", ""), ("f", 0, "x", "x", "a", "a"), ("f", 0, "", "", "", ""), ("f", 0, "y", "", "", "")]),
+            ("outer", [("f", 0, "x", "y", "a", ""), ("f", 0, "x", "x", "a", "a"), ("f", 0, "", "", "", ""),
+                       ("f", 0, "y", "", "", "")]),
         ]:
             for key in keys:
                 self.fails(program, which, key)

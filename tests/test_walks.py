@@ -82,7 +82,8 @@ class WalksTest(unittest.TestCase):
             self.assertEqual(self.follow(arrows, at, tail)[0][-1], goal)
 
     def test_the_example(self):
-        self.assertEqual([heaviest(ARROWS, [("a", 0)]), heaviest(ARROWS[:2], [("a", 1)]), ring(ARROWS, [("a", 0)], "d")],
+        self.assertEqual([heaviest(ARROWS, [("a", 0)]), heaviest(ARROWS[:2], [("a", 1)]),
+                          ring(ARROWS, [("a", 0)], "d")],
                          [{"a": 0, "b": "endless", "c": "endless", "d": 5}, {"a": 1, "b": 4, "c": 3}, None])
 
     def test_against_all_walks_of_few_arrows(self):
