@@ -207,6 +207,16 @@ class RunsTest(unittest.TestCase):
         self.assertEqual(played(loop, run, {"w": 10 ** 40, "r": -5}), ("main", 1, {"r": 994, "w": 10 ** 40 + 1000}))
         self.assertEqual(form_at(loop, run)[2]["w"], {"w": 1000})
 
+    def test_two_thousand_ways_that_set_all_names(self):
+        turn = ("set", [("a", "b", 1), ("b", "c", 2), ("c", "d", -1), ("d", "a", 3)])
+        main = Procedure({x: "plain" for x in "abcd"}, ["a"], [], 2, [(0, 0, turn)])
+        program = Program({"main": main}, "main")
+        moment = [0] * 2000
+        self.assertEqual(played(program, moment, {"a": 5}), ("main", 0, {"a": 2505, "b": 2500, "c": 2500, "d": 2500}))
+        self.assertEqual(played(program, moment[1:], {"a": 5}), ("main", 0, {"a": 2497, "b": 2504, "c": 2498, "d": 2501}))
+        self.assertEqual([form_at(program, moment)[2][x] for x in "ab"], [{"a": 2500}, {"": 2500}])
+        self.assertEqual([is_moment(program, moment), is_run(program, "main", moment), steps_of(moment)], [True, False, 2000])
+
     def test_calls_forty_deep(self):
         down = down_program()
         run, moment = [("call", 0, nested(40))], [("in", 0, nested(40, "in", [("call", 0, [1])]))]
