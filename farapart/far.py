@@ -21,15 +21,21 @@ def far_in(program, facts, name, x, y):
 def constant(program, facts, spot):
     """Return the integer that x - y always is at a spot, or None."""
     check_spots(program, facts, [spot])
+    check_plain(program, spot)
     name, place, x, y = spot
-    for source in (x, y):
-        if program[name].kind(source) != "plain":
-            raise NotFar(source)
     above = _far(program, facts, spot)
     below = _far(program, facts, (name, place, y, x))
     if above in (None, "endless") or below in (None, "endless") or above != -below:
         return None
     return above
+
+
+def check_plain(program, spot):
+    """Raise NotFar for the first of x and y of a spot that is not plain."""
+    name, _, x, y = spot
+    for source in (x, y):
+        if program[name].kind(source) != "plain":
+            raise NotFar(source)
 
 
 def known(facts, rows, spot):

@@ -1,6 +1,7 @@
 """Spots: what is asked of places and names before anything is told of them."""
 
 from farapart.errors import NoName, NotFar, Unlike
+from farapart.kinds import is_integer
 
 
 def check_sides(procedure, sides, sources, u, v, s, t):
@@ -30,3 +31,16 @@ def check_spot(program, spot):
     procedure.out(place)  # for its error
     sources = [""] + procedure.names()
     check_sides(procedure, sources, sources, x, y, "", "")
+
+
+def is_spot(program, thing):
+    """Return whether thing, a tuple of four values of any kind, is a spot that there is in a program."""
+    name, place, x, y = thing
+    if name not in program or not is_integer(place) or not 0 <= place < program[name].size:
+        return False
+    return is_one_of(x, program[name].uppers()) and is_one_of(y, program[name].lowers())
+
+
+def is_one_of(thing, words):
+    """Return whether thing, any value, is one of some strings."""
+    return isinstance(thing, str) and thing in words

@@ -58,13 +58,20 @@ def numbers(statement):
 
 def with_number(statement, at, number):
     """Return the frozen statement with another integer in the place of one."""
-    parts = _parts(statement)
-    if not 0 <= at < len(parts):
+    known = numbers(statement)
+    if not 0 <= at < len(known):
         raise NoEntry(at)
-    changed = [part[:-1] + (number,) if index == at else part for index, part in enumerate(parts)]
-    place = PARTS[statement[0]]
+    return with_numbers(statement, known[:at] + [number] + known[at + 1:])
+
+
+def with_numbers(statement, new):
+    """Return the frozen statement with other integers, new being the list of all of them."""
     whole = frozen(statement)
-    return whole[:place] + (tuple(changed),) + whole[place + 1:]
+    if whole[0] == "skip":
+        return whole
+    place = PARTS[whole[0]]
+    parts = [part[:-1] + (number,) for part, number in zip(whole[place], new)]
+    return whole[:place] + (tuple(parts),) + whole[place + 1:]
 
 
 def with_names(statement, names):

@@ -4,6 +4,7 @@ from farapart.inner import Inner
 from farapart.kinds import is_integer
 from farapart.outer import Outer, fresh_outer
 from farapart.sides import REST, arrows_into, arrows_of, begins_of
+from farapart.spots import is_one_of
 
 
 def table(program):
@@ -49,12 +50,9 @@ def _is_row(program, thing, rests):
         return False
     rest = [REST] if rests else []
     sources = [""] + rest + list(procedure.params if rests else program[program.first].params)
-    sides = _is_one(u, procedure.uppers() + rest) and _is_one(v, procedure.lowers() + rest)
-    return sides and _is_one(s, sources) and _is_one(t, sources) and (is_integer(value) or _is_one(value, ["endless"]))
-
-
-def _is_one(thing, known):
-    return isinstance(thing, str) and thing in known
+    if not is_one_of(u, procedure.uppers() + rest) or not is_one_of(v, procedure.lowers() + rest):
+        return False
+    return is_one_of(s, sources) and is_one_of(t, sources) and (is_integer(value) or is_one_of(value, ["endless"]))
 
 
 def _begins(program, name, told, rest):

@@ -3,6 +3,7 @@
 from runner import SOURCES, random_part
 
 from farapart.facts import Facts
+from farapart.far import far
 from farapart.forms import Form
 from farapart.plays import form_at, moments
 from farapart.procedures import Procedure
@@ -227,3 +228,32 @@ def difference(program, spot, rows, start):
     name, place, numbers = roads.shows(last, start)
     assert (name, place) == spot[:2]
     return {**numbers, "": 0}[spot[2]] - {**numbers, "": 0}[spot[3]]
+
+
+def fixed(start):
+    """The Facts that only one start keeps."""
+    return Facts(list(start), [fact for x, c in start.items() for fact in ((x, "", c), ("", x, -c))])
+
+
+def renamed_all(program, facts, rng):
+    """A program and facts with all names renamed, and the dicts from the old names of names and of procedures."""
+    within = {"": "", **dict(zip("abcdrwnmpqhl", rng.sample(["a", "bb", "c", "xyz", "d", "k", "r", "ww", "z", "o", "p", "s"], 12)))}
+    names = dict(zip(program.names(), rng.sample(["zz", "main", "f", "aa"], len(program))))
+    inner = {name: program[name].renamed({x: within[x] for x in program[name].names()}) for name in program.names()}
+    others = Facts([within[x] for x in facts.names()], [(within[x], within[y], c) for x, y, c in facts.bounds()])
+    return Program(inner, program.first).renamed(names), others, within, names
+
+
+def renamed_spot(spot, within, names):
+    """A spot, or a claim, of a renamed program."""
+    name, place, x, y = spot[:4]
+    return (names[name], place, within[x], within[y]) + spot[4:]
+
+
+def some_claims(rng, program, facts, many):
+    """Random claims, most of them near to what far tells."""
+    found = []
+    for spot in rng.choices(all_spots(program), k=many):
+        told = far(program, facts, spot)
+        found.append(spot + ((told if isinstance(told, int) else 0) + rng.choice([-5, -1, 0, 0, 1, 10 ** 40]),))
+    return found

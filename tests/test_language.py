@@ -39,6 +39,10 @@ LISTED = {
     "tables": {name: None for name in ("table", "is_table", "loosest")},
     "reasons": {name: None for name in ("reason", "way_to", "is_reason")},
     "beyond": {name: None for name in ("beyond", "growth")},
+    "claims": {name: None for name in ("is_claim", "holds", "broken", "counter")},
+    "weakest": {name: None for name in ("weakest", "needed")},
+    "slack": {"slack": None},
+    "buffers": {name: None for name in ("ring_size", "lead")},
 }
 
 

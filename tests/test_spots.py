@@ -3,12 +3,16 @@
 import unittest
 
 from farapart.beyond import beyond, growth
+from farapart.buffers import lead, ring_size
+from farapart.claims import broken, counter, holds
 from farapart.errors import Endless, Never, NoName, NoPlace, NoProc, NotFar, Unlike
 from farapart.facts import Facts
 from farapart.far import constant, far, far_in
 from farapart.procedures import Procedure
 from farapart.programs import Program
 from farapart.reasons import is_reason, reason, way_to
+from farapart.slack import slack
+from farapart.weakest import needed, weakest
 
 KINDS = {"p": "plain", "h": "high", "l": "low", "q": "plain"}
 # Place 2 is not come to, at place 1 q is endless, the procedure unused is never called.
@@ -25,6 +29,17 @@ CALLS = {
     "is_reason": lambda program, facts, spot: is_reason(program, facts, spot, 0, None),
     "beyond": lambda program, facts, spot: beyond(program, facts, spot, 0),
     "growth": growth,
+    "holds": lambda program, facts, spot: holds(program, facts, spot + (0,)),
+    "counter": lambda program, facts, spot: counter(program, facts, spot + (0,)),
+    "lead": lambda program, facts, spot: lead(program, facts, spot[0], spot[2], spot[3]),
+}
+
+# Those that take several spots, each with something wrong of its own that comes behind.
+LISTS = {
+    "broken": lambda program, facts, spots: broken(program, facts, [spot + (0,) for spot in spots]),
+    "needed": lambda program, facts, spots: needed(program, facts, [("z", "z", 0)], [spot + (0,) for spot in spots]),
+    "slack": lambda program, facts, spots: slack(program, facts, [spot + (0,) for spot in spots], "none", 9, 9),
+    "ring_size": lambda program, facts, spots: ring_size(program, facts, [("main", 0, "h", "l")] + spots),
 }
 
 WRONG = [
@@ -56,10 +71,25 @@ class SpotsTest(unittest.TestCase):
     def test_each_in_its_order(self):
         for word, call in CALLS.items():
             for spot, error, field, thing in WRONG:
-                if word == "far_in" and error is NoPlace:
+                if word in ("far_in", "lead") and error is NoPlace:
                     continue
                 found = self.raises(error, call, PROGRAM, FACTS, spot)
                 self.assertEqual(getattr(found, field), thing, (word, spot))
+
+    def test_several_spots(self):
+        right = [("main", 1, "q", "p"), ("unused", 0, "", "l")]
+        for word, call in LISTS.items():
+            for at, (spot, error, field, thing) in enumerate(WRONG):
+                behind = [WRONG[(at + more) % len(WRONG)][0] for more in (1, 5)]
+                for spots in ([spot], right + [spot], right + [spot] + right, [spot] + behind, right + [spot] + behind):
+                    self.assertEqual(getattr(self.raises(error, call, PROGRAM, FACTS, spots), field), thing, (word, spots))
+                    for facts in OTHERS:
+                        self.raises(Unlike, call, PROGRAM, facts, spots)
+                    if word == "broken":
+                        found = self.raises(error, weakest, PROGRAM, [some + (0,) for some in spots])
+                        self.assertEqual(getattr(found, field), thing, spots)
+            for facts in OTHERS:
+                self.raises(Unlike, call, PROGRAM, facts, [])
 
     def test_facts_are_asked_of_the_parameters_in_any_order(self):
         for facts in (Facts(["p", "h"]), Facts(("h", "p"), [("p", "h", 1)])):
