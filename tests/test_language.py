@@ -43,6 +43,12 @@ LISTED = {
     "weakest": {name: None for name in ("weakest", "needed")},
     "slack": {"slack": None},
     "buffers": {name: None for name in ("ring_size", "lead")},
+    "alike": {name: None for name in ("same_far", "parted", "idle_ways", "inlined")},
+    "book": {"Book": """__init__ __len__ __eq__ program facts do back again past copied claims log broken weakest
+        trial""".split()},
+    "notation": {f"{word}_{thing}": None for word in ("show", "read")
+                 for thing in ("statement", "procedure", "program", "facts", "claim", "deed")},
+    "desk": {"Desk": "__init__ execute".split()},
 }
 
 
@@ -177,7 +183,10 @@ class LanguageTest(unittest.TestCase):
 
     def test_only_own_errors_are_caught(self):
         for name, node in nodes(ast.Try):
-            self.assertEqual(node.finalbody, [])
+            for item in node.finalbody:
+                self.assertIsInstance(item, ast.Assign, where(name, item))
+                given = [part for part in ast.walk(item.value) if not isinstance(part, (ast.Tuple, ast.Name, ast.Load))]
+                self.assertEqual(given, [], where(name, item))
             for handler in node.handlers:
                 self.assertIn(handler.type.id, own_errors(), where(name, handler))
 

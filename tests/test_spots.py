@@ -2,6 +2,7 @@
 
 import unittest
 
+from farapart.alike import idle_ways, parted, same_far
 from farapart.beyond import beyond, growth
 from farapart.buffers import lead, ring_size
 from farapart.claims import broken, counter, holds
@@ -39,6 +40,9 @@ LISTS = {
     "broken": lambda program, facts, spots: broken(program, facts, [spot + (0,) for spot in spots]),
     "needed": lambda program, facts, spots: needed(program, facts, [("z", "z", 0)], [spot + (0,) for spot in spots]),
     "slack": lambda program, facts, spots: slack(program, facts, [spot + (0,) for spot in spots], "none", 9, 9),
+    "same_far": lambda program, facts, spots: same_far(program, PROGRAM, facts, spots),
+    "parted": lambda program, facts, spots: parted(program, PROGRAM, facts, spots),
+    "idle_ways": idle_ways,
     "ring_size": lambda program, facts, spots: ring_size(program, facts, [("main", 0, "h", "l")] + spots),
 }
 
