@@ -67,11 +67,11 @@ def _first_right(dial, facts, claims, begin, step):
     while True:
         program = dial.scaled(d, step)
         found = [_steps_needed(program, facts, claim, dial.scale) for claim in claims]
-        many = max([steps for steps in found if steps not in (None, LAST)], default=0)
-        if None in found or (LAST in found and many > 0):
+        if None in found:
             return None
         if LAST in found:
             return d if not broken(dial.turned(d), facts, claims) else None
+        many = max(found, default=0)
         if many == 0:
             return "endless" if d == begin else d
         d += step * many
